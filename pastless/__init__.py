@@ -1,0 +1,1 @@
+"""Pastless: what the cells of a store tell of its past."""
