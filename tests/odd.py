@@ -22,9 +22,9 @@ PLAIN = [None, True, False, -1, 0, 1, 7, 10 ** 30, "", "a", "put", "x" * 60000, 
          [()], {"a": 1}, {0: ()}, ("put",), ("put", 0), ("put", True), ["put", 0], ("put", 0, 0), ("none", 0), (0, "put"),
          [("put", 0)], (("put", 0),), (True,), (False, False), [(0, 1)], (0, 0, 0, 0, 0, 0, 0), ("table",), ("pasts",),
          ("table", [], []), ("pasts", [], [], []), ("table", None, None), ("table", [{}], []), V, [V], (V, V), READER,
-         ([], [], []), ([("put", 0)], [()], [()])]
+         ([], 0), ({}, 0), (["put"], 0), (("put",), 0), ("put", []), ("put", {}), (V, 0), ("put", V), ([], [], []), ([("put", 0)], [()], [()])]
 
-ODD = PLAIN + DEEP
+ODD = PLAIN + DEEP + [(value, 0) for value in DEEP] + [("put", value) for value in DEEP]
 
 
 def same(one, other):

@@ -16,6 +16,15 @@ LATE = Vault([(2, 0), (4, 0)], [("flip", 1, (("coin", "a"), ("set", 0, "a"), ("s
                                              ("if", ("=", "a", 2), (("answer", "b"),), ())))])
 # Its first state cannot be come back to.
 GONE = Vault([(3, 2)], [("go", 1, (("set", 0, 0),)), ("get", 1, (("read", "a", 0), ("answer", ("=", "a", 2))))])
+
+
+def staged(last, toss):
+    """A vault whose deed "end" tells a coin at one stage only; "go" leads to the next one, or throws a coin for that."""
+    rows = (("coin", "b"),) if toss else (("keep", "b", 1),)
+    return Vault([(7, 0)], [("go", 1, rows + (("read", "a", 0), ("set", 0, ("+", "a", "b")))),
+                            ("end", 1, (("read", "a", 0), ("if", ("=", "a", last), (("coin", "b"), ("answer", "b")), ())))])
+
+
 HALF = begun(Vault([(3, 0), (2, 0)], [("put", 2, (("set", 0, "x"),))]), (1, 1))
 
 
@@ -79,6 +88,14 @@ class Unsure(unittest.TestCase):
                     what(vault)
         self.assertEqual([call[0] for call in unsure(LATE)[0]], ["flip", "wait", "wait", "wait"])
 
+    def test_stages(self):
+        for last in range(7):
+            for toss in (False, True):
+                vault = staged(last, toss)
+                row, one, other = unsure(vault)
+                self.assertIs(unsure_fault(vault, (row, one, other)), None)
+                self.assertEqual((row[-1], len(row) > last), (("end", 0), True))
+
     def test_like_the_slow_ones(self):
         seen = set()
         for seed in range(200):
@@ -97,7 +114,7 @@ class Unsure(unittest.TestCase):
         wrong = ODD + [[row, one, other], (row, one), (row, one, other, []), ([], [], []), (tuple(row), one, other),
                        (row, tuple(one), other), (row, one, tuple(other)), (row, one[:1], other), (row, one, other + [()]),
                        ([("flip", 0), ("get", 1)], one, other), ([("flip", False), ("get", 0)], one, other),
-                       (row, [[0], ()], other), (row, one, [(1,), []]), (row, [(True,), ()], other), (row, one, [(2,), ()]),
+                       (row, None, other), (row, one, None), (row, [[0], ()], other), (row, one, [(1,), []]), (row, [(True,), ()], other), (row, one, [(2,), ()]),
                        (row, one, [(-1,), ()]), (row, one, [("1",), ()]), (row, one, [None, ()]), (None, one, other)]
         for thing in wrong:
             self.assertEqual(unsure_fault(UNSURE, thing), ("form",))

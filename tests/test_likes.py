@@ -16,12 +16,16 @@ RING = Vault([(4, 0)], [("go", 1, (("read", "a", 0), ("if", ("<", "a", 2), (("se
                         ("get", 1, (("read", "a", 0), ("answer", ("=", "a", 3))))])
 # None of its states can come but the first one.
 STILL = Vault([(4, 0)], [("see", 1, (("read", "a", 0), ("answer", ("<", "a", 2)))), ("stay", 1, ())])
+# Two coins fall into states that are all silent, none of them the same.
+FAN = Vault([(9, 0)], [("move", 1, (("read", "a", 0), ("if", "a", (), (("set", 0, 1),)))),
+                       ("toss", 1, (("read", "a", 0), ("if", ("<", "a", 2), (
+                           ("coin", "b"), ("set", 0, ("+", 2, ("+", "b", ("*", 2, "a"))))), ())))])
 
 
 class Likeness(unittest.TestCase):
 
     def test_like(self):
-        for vault in (W, K, LOOSE, RING):
+        for vault in (W, K, LOOSE, RING, FAN):
             for held in contents(vault):
                 for one in held:
                     for other in held:
@@ -29,6 +33,13 @@ class Likeness(unittest.TestCase):
                         self.assertIs(likeness_fault(vault, one, other, pairs), None)
                         self.assertIs(slow.likeness_fault(vault, one, other, pairs), None)
                         self.assertLess(len(pairs), len(states(vault)))
+
+    def test_all_falls_are_joined(self):
+        pairs = likeness(FAN, (0,), (1,))
+        self.assertEqual(len(pairs), 4)
+        for one in range(2, 6):
+            for other in range(2, 6):
+                self.assertIs(likeness_fault(FAN, (one,), (other,), pairs), None)
 
     def test_not_like(self):
         self.assertIs(likeness(W, (0, 0), (1, 0)), None)

@@ -19,6 +19,22 @@ TIDY = Vault([(2, 0), (2, 0)], [("put", 2, (("read", "a", 0), ("set", 1, "a"), (
 TWO = Vault([(3, 0), (2, 0)], [("lay", 1, (("read", "a", 0), ("if", "a", (("answer", 0),), ()), ("coin", "b"),
                                            ("set", 0, ("+", "b", 1)), ("coin", "c"), ("set", 1, "c"), ("answer", 1))),
                                ("turn", 1, (("read", "a", 0), ("if", "a", (("coin", "b"), ("set", 1, "b")), ())))])
+# Like TIDY, but the coin is thrown only behind "one" and then "two".
+STAGED = Vault([(2, 0), (3, 0)], [("one", 1, (("swap", "a", 1, 0, 1),)), ("two", 1, (("swap", "a", 1, 1, 2),)),
+                                  ("toss", 1, (("read", "a", 1), ("if", ("=", "a", 2), (("coin", "b"), ("set", 0, "b")), ()))),
+                                  ("see", 1, (("read", "a", 1), ("answer", "a")))])
+# Each state leads by two calls to others: 0 and 3 are like, and so are 6 and 7. 3 is three calls away, 6 and 7 are two.
+WEB = ((1, 5), (2, 1), (3, 2), (1, 5), (4, 4), (6, 7), (6, 6), (7, 7))
+LOOK = (0, 1, 2, 0, 4, 5, 6, 6)
+
+
+def web(leads, answers):
+    """A vault of one cell with two calls, which lead from each state to others; both answer what is told of the state."""
+    rows = ()
+    for state, behind in enumerate(leads):
+        go = (("if", "x", (("set", 0, behind[1]),), (("set", 0, behind[0]),)), ("answer", answers[state]))
+        rows += (("if", ("=", "a", state), go, ()),)
+    return Vault([(len(leads), 0)], [("go", 2, (("read", "a", 0),) + rows), ("stay", 1, ())])
 
 
 def all_behind(vault):
@@ -43,6 +59,7 @@ class Pastless(unittest.TestCase):
         self.assertIs(pastless(K), True)
         self.assertIs(pastless(TWO), True)
         self.assertIs(pastless(LOOSE), False)
+        self.assertIs(pastless(STAGED), False)
 
     def test_behind(self):
         self.assertIs(pastless(TIDY, behind=["tidy"]), True)
@@ -83,7 +100,7 @@ class Paper(unittest.TestCase):
         self.assertIs(past_fault(V, ("table", [{(at,): ONE} for at in range(3)], [[("get", 0)]])), None)
 
     def test_right(self):
-        vaults = [V, W, K, LOOSE, TIDY, TWO, counter(3, 4)] + [Maker(seed).vault(seed % 2 == 1) for seed in range(160)]
+        vaults = [V, W, K, LOOSE, TIDY, TWO, STAGED, web(WEB, LOOK), counter(3, 4)] + [Maker(seed).vault(seed % 2 == 1) for seed in range(160)]
         for vault in vaults:
             if not slow.is_sure(vault):
                 continue
@@ -101,6 +118,17 @@ class Paper(unittest.TestCase):
         found = slow.shares_by_content(vault, behind, total)
         sums = [sum(sorted(lengths.values())[:2]) for lengths in found.values() if len(lengths) > 1]
         self.assertEqual(total, min(sums))
+
+    def test_the_least_sum(self):
+        # The first two like states that are met are not those with the least sum.
+        vault = web(WEB, LOOK)
+        paper = past_paper(vault)
+        self.assertEqual(sorted([paper[1], paper[2]]), [[], [("go", 0)] * 3])
+        self.assertIs(past_fault(vault, paper), None)
+        paper = past_paper(vault, behind=["go"])
+        self.assertEqual(sorted([paper[1], paper[2]]), [[("go", 1), ("go", 0)], [("go", 1), ("go", 1)]])
+        paper = past_paper(vault, behind=["stay"])
+        self.assertEqual(sorted([paper[1], paper[2]]), [[("go", 0)] * 3 + [("stay", 0)], [("stay", 0)]])
 
     def test_long_book(self):
         vault = counter(4, 6)

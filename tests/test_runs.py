@@ -199,6 +199,16 @@ class Pasts(unittest.TestCase):
         self.assertTrue(all(gcd(*chance) == 1 for chance in walk.values()))
         four = Vault([(9, 0)], [("a", 1, tuple(("coin", name) for name in "abcd") + (("set", 0, ("+", ("+", "a", "b"), ("+", "c", "d"))),))])
         self.assertEqual(share(four, [("a", 0)]), {(0,): (1, 16), (1,): (1, 4), (2,): (3, 8), (3,): (1, 4), (4,): (1, 16)})
+        # How many coins fall hangs on the falls, and on the state.
+        rows = (("set", 0, ("+", ("+", "a", "b"), ("+", "c", "d"))),)
+        for name in "dcba":
+            rows = (("coin", name), ("if", name, rows, (("set", 0, ("+", ("+", "a", "b"), "c")),)))
+        long = Vault([(9, 0)], [("a", 1, rows)])
+        self.assertEqual(share(long, [("a", 0)]), {(0,): (1, 2), (1,): (1, 4), (2,): (1, 8), (3,): (1, 16), (4,): (1, 16)})
+        mixed = Vault([(6, 0)], [("a", 1, (("read", "a", 0), ("if", "a", (
+            ("if", ("=", "a", 1), (("set", 0, 2),), (("coin", "b"), ("coin", "c"), ("set", 0, ("+", 3, ("+", "b", "c"))))),),
+            (("coin", "b"), ("set", 0, ("+", "b", 1))))))])
+        self.assertEqual(share(mixed, [("a", 0)] * 2), {(2,): (1, 2), (3,): (1, 8), (4,): (1, 4), (5,): (1, 8)})
         for seed in range(80):
             maker = Maker(seed)
             vault = maker.vault(True)

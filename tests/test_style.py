@@ -1,4 +1,4 @@
-"""The sizes and signs that ../shared/LANGUAGE.md lets (L1, L8, L10, L14, L17, L24), as far as they are easily seen."""
+"""The sizes and signs that ../shared/LANGUAGE.md lets (L1, L2, L8, L10, L14 to L17), as far as they are easily seen."""
 
 import ast
 import builtins
@@ -62,6 +62,17 @@ class Style(unittest.TestCase):
                     self.assertNotIn(node.id, barred, name)
                 if isinstance(node, ast.arg):
                     self.assertNotIn(node.arg, barred, name)
+
+    def test_nothing_is_called_like_an_import(self):
+        for name, text in sources():
+            nodes = list(ast.walk(ast.parse(text)))
+            taken = {alias.name for node in nodes if isinstance(node, ast.ImportFrom) for alias in node.names}
+            taken |= {node.name for node in nodes if isinstance(node, ast.ClassDef)}
+            for node in nodes:
+                if isinstance(node, ast.Name) and isinstance(node.ctx, ast.Store):
+                    self.assertNotIn(node.id, taken, name)
+                if isinstance(node, ast.arg):
+                    self.assertNotIn(node.arg, taken, name)
 
     def test_imports(self):
         names = [name[:-3] for name, _ in sources()]
