@@ -1,6 +1,6 @@
 """Whether values are integers, states, calls or rows of calls, and the errors if they are not."""
 
-from pastless.errors import HasCoins, NoCall, NoMost, NoRow, NoState
+from pastless.errors import HasCoins, NoCall, NoMost, NoRow, NoState, OtherCalls
 
 GREATEST_MOST = 100000
 
@@ -114,6 +114,12 @@ def check_plain(vault):
     """HasCoins if the vault has coins."""
     if vault.has_coins():
         raise HasCoins()
+
+
+def check_calls(vault, calls):
+    """OtherCalls if these are not the calls of the vault, in the same order."""
+    if calls != vault.calls():
+        raise OtherCalls()
 
 
 def check_most(most):

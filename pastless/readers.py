@@ -22,7 +22,7 @@ class Reader:
         self._numbers = numbers
         self._many = many
         self._first = first
-        self._table = {key: table[key] for key in table}
+        self._leads = [[table[(stand, call)] for stand in range(many)] for call in numbers]
         self._marks = {stand: True for stand in marks}
 
     def many(self):
@@ -36,9 +36,10 @@ class Reader:
     def after(self, stand, call):
         """The stand to which a call leads."""
         self._check_stand(stand)
-        if call_number(self._numbers, call) < 0:
+        number = call_number(self._numbers, call)
+        if number < 0:
             raise NoCall()
-        return self._table[(stand, call)]
+        return self._leads[number][stand]
 
     def marked(self, stand):
         """Whether the stand is a mark."""
@@ -50,8 +51,16 @@ class Reader:
         check_row(self._numbers, row)
         stand = self._first
         for call in row:
-            stand = self._table[(stand, call)]
+            stand = self._leads[self._numbers[call]][stand]
         return stand in self._marks
+
+    def list_of_calls(self):
+        """The calls that it reads, in their order."""
+        return list(self._numbers)
+
+    def lead(self, stand, number):
+        """The stand to which the call with a number leads."""
+        return self._leads[number][stand]
 
     def _check_stand(self, stand):
         if not is_within(stand, 0, self._many - 1):

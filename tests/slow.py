@@ -98,12 +98,19 @@ class Slow:
         raise Over()
 
 
+# The outcomes that were worked out already, by vaults: each is kept with its vault, so that its id stays its own.
+KEPT = {}
+
+
 def outcomes(vault, state, call):
-    found = {}
-    for coins in itertools.product((0, 1), repeat=4):
-        run = Slow(vault, state, call, coins)
-        found[coins[:run.used]] = (coins[:run.used], run.answer, tuple(run.cells))
-    return [found[coins] for coins in sorted(found)]
+    kept = KEPT.setdefault(id(vault), (vault, {}))[1]
+    if (state, call) not in kept:
+        found = {}
+        for coins in itertools.product((0, 1), repeat=4 if vault.has_coins() else 0):
+            run = Slow(vault, state, call, coins)
+            found[coins[:run.used]] = (coins[:run.used], run.answer, tuple(run.cells))
+        kept[(state, call)] = [found[coins] for coins in sorted(found)]
+    return kept[(state, call)]
 
 
 def states(vault):

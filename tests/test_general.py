@@ -4,7 +4,7 @@ import copy
 import inspect
 import unittest
 
-from pastless import errors, holds, likes, looks, readers, runs, vaults
+from pastless import cuts, errors, facts, holds, likes, looks, moments, readers, runs, strikes, vaults
 from pastless.errors import (HasCoins, NoCall, NoCoins, NoMost, NoNames, NoState, NotComing, NotSure, TooMany)
 from pastless.vaults import Vault
 from odd import ODD, odd_but
@@ -15,6 +15,21 @@ MOST = [
     (holds.parted, ("first", "first")), (holds.most_layouts, ()), (likes.likeness, ("first", "first")), (looks.pastless, ()),
     (looks.past_paper, ()),
 ]
+
+
+# Of vaults without coins alone.
+PLAIN_MOST = [
+    lambda vault, **named: facts.known(vault, still(vault), vault.first(), **named),
+    lambda vault, **named: facts.known_held(vault, still(vault), vault.first(), **named),
+    lambda vault, **named: facts.told(vault, still(vault), **named), facts.telling_reader,
+    lambda vault, **named: strikes.never(vault, [vault.calls()[0]], vault.calls()[-1], **named),
+    moments.moment_paper, cuts.cut_states, cuts.cut_paper,
+]
+
+
+def still(vault):
+    """A reader of one stand."""
+    return readers.Reader(vault, 1, 0, {(0, call): 0 for call in vault.calls()}, [0])
 
 
 def arguments(vault, names):
@@ -29,6 +44,13 @@ def lists_in(value):
         for part in value.values() if isinstance(value, dict) else value:
             found += lists_in(part)
     return found
+
+
+def laid_open(value):
+    """The value, with the parts of readers in their place: they have no equality of their own."""
+    if isinstance(value, readers.Reader):
+        return vars(value)
+    return [laid_open(part) for part in value] if isinstance(value, list) else value
 
 
 def spoil(value):
@@ -58,6 +80,38 @@ class Most(unittest.TestCase):
             with self.assertRaises(TooMany) as caught:
                 what(*arguments(counter(4, 7), names))
             self.assertEqual(caught.exception.most, 2000)
+
+    def test_plain(self):
+        # "on" does nothing, so that what is left of a past ends in the same state.
+        for sizes, many in [((2, 3), 6), ((9,), 9), ((1,), 1), ((5, 5, 5, 4, 4), 2000), ((9, 8, 7, 4), 2016)]:
+            deeds = [("on", 1, ())] + [(name, size, (("set", at, "x"),)) for at, (name, size) in enumerate(zip("abcdef", sizes))]
+            vault = Vault([(size, 0) for size in sizes], deeds + [("no", 1, ())])
+            for what in PLAIN_MOST:
+                for value in [0, True, None, 100001, "1", [], (1,)]:
+                    with self.assertRaises(NoMost):
+                        what(vault, most=value)
+                what(vault, most=many)
+                if many <= 2000:
+                    what(vault)
+                else:
+                    with self.assertRaises(TooMany) as caught:
+                        what(vault)
+                    self.assertEqual(caught.exception.most, 2000)
+                if many > 1:
+                    with self.assertRaises(TooMany) as caught:
+                        what(vault, most=many - 1)
+                    self.assertEqual(caught.exception.most, many - 1)
+            for what, names in MOST:
+                if many == 2000:
+                    what(*arguments(vault, names))
+                elif many > 2000:
+                    with self.assertRaises(TooMany):
+                        what(*arguments(vault, names))
+            for vault in (K, LOOSE, UNSURE):
+                for what in PLAIN_MOST:
+                    for most in (0, 1, 2000):
+                        with self.assertRaises(HasCoins):
+                            what(vault, most=most)
 
     def test_where_little_would_show_it(self):
         # Already the first call shows that it is not sure; and the two states are the same one.
@@ -123,7 +177,34 @@ def samples():
         (looks.past_fault, [V, looks.past_paper(V)], {"behind": ["put"]}), (looks.past_fault, [W, looks.past_paper(W)], {}),
         (looks.past_fault, [LOOSE, looks.past_paper(LOOSE)], {}),
         (V.names, [], {}), (V.calls, [], {}), (V.rows, ["put"], {}), (V.shape, [], {}), (reader.reads, [row], {}),
+    ] + samples_of_plain(row)
+
+
+def samples_of_plain(row):
+    """Functions of vaults without coins, with arguments."""
+    reader = ever_one()
+    told = facts.told(W, reader)
+    cut = ("cut", ("put", 1), 1)
+    return [
+        (facts.known, [W, reader, (0, 1)], {}), (facts.known_held, [W, reader, (0, 1)], {}), (facts.told, [W, reader], {}),
+        (facts.told_fault, [W, reader, told], {}), (facts.told_fault, [W, reader, told[:2] + (told[2][:3],) + told[3:]], {}),
+        (strikes.spared, [row, [("put", 1)]], {}), (strikes.spared, [row, []], {}), (strikes.spared, [[], row], {}),
+        (strikes.never, [W, [("put", 1)], ("put", 0)], {}), (strikes.never, [V, [("put", 1), ("put", 1)], ("put", 0)], {}),
+        (strikes.never_fault, [W, [("put", 1)], ("put", 0), ("shows", row)], {}),
+        (strikes.never_fault, [V, [("put", 1)], ("put", 0), strikes.never(V, [("put", 1)], ("put", 0))], {}),
+        (moments.moment_paper, [V], {}), (moments.moment_paper, [W], {}), (moments.moment_paper, [counter(2, 2)], {}),
+        (moments.moment_fault, [V, looks.past_paper(V)], {}), (moments.moment_fault, [W, looks.past_paper(W)], {}),
+        (moments.moment_fault, [W, ("amid", [("put", 1)], ("put", 0), 1)], {}),
+        (cuts.cut_led, [W, [cut] + row], {}), (cuts.cut_states, [W], {}), (cuts.cut_paper, [V], {}), (cuts.cut_paper, [W], {}),
+        (cuts.cut_fault, [V, cuts.cut_paper(V)], {}), (cuts.cut_fault, [W, ("pasts", [cut] + row, [], [((0, 1), (0, 0))])], {}),
     ]
+
+
+def ever_one():
+    """Was 1 ever put? [44]"""
+    behind = {(stand, call): stand for stand in (0, 1) for call in W.calls()}
+    behind[(0, ("put", 1))] = 1
+    return readers.Reader(W, 2, 0, behind, [1])
 
 
 class Values(unittest.TestCase):
@@ -132,7 +213,7 @@ class Values(unittest.TestCase):
         for what, given, named in samples():
             kept, kept_named = copy.deepcopy(given), copy.deepcopy(named)
             what(*given, **named)
-            self.assertEqual((given, named), (kept, kept_named), what)
+            self.assertEqual((laid_open(given), named), (laid_open(kept), kept_named), what)
 
     def test_what_is_returned_is_new(self):
         for what, given, named in samples():
@@ -158,7 +239,15 @@ class Values(unittest.TestCase):
                     (NoState, lambda: holds.content(V, value)), (NoMost, lambda: holds.states(V, most=value)),
                     (NoState, lambda: likes.likeness_fault(V, (0,), value, value)), (NoNames, lambda: looks.pastless(V, behind=value)),
                     (NoNames, lambda: looks.past_fault(V, value, behind=[value])),
-                    (errors.NoReader, lambda: readers.Reader(V, 1, value if value != 0 else 1, value, value))]:
+                    (errors.NoReader, lambda: readers.Reader(V, 1, value if value != 0 else 1, value, value)),
+                    (NoState, lambda: facts.known(V, still(V), value)), (NoState, lambda: facts.known_held(V, still(V), value)),
+                    (NoMost, lambda: facts.told(V, still(V), most=value)), (errors.NoStruck, lambda: strikes.never(V, value, value)),
+                    (errors.NoStruck, lambda: strikes.never_fault(V, [value], value, value)),
+                    (NoCall, lambda: strikes.never(V, [], value)), (NoCall, lambda: strikes.never_fault(V, [("put", 0)], value, value)),
+                    (NoMost, lambda: moments.moment_paper(V, most=value)), (NoMost, lambda: cuts.cut_paper(V, most=value)),
+                    (errors.NoRow, lambda: cuts.cut_led(V, value)), (errors.NoRow, lambda: cuts.cut_led(V, [value])),
+                    (errors.NoRow, lambda: cuts.cut_led(V, [("cut", value, 0)])),
+                    (errors.NoRow, lambda: cuts.cut_led(V, [("cut", ("put", 0), value if value not in (0, 1) else None)]))]:
                 with self.assertRaises(error):
                     what()
 
@@ -170,6 +259,20 @@ class Values(unittest.TestCase):
                 holds.unsure_fault(V, thing)
                 likes.likeness_fault(V, (0,), (0,), thing)
                 looks.past_fault(V, thing)
+                moments.moment_fault(V, thing)
+                cuts.cut_fault(V, thing)
+                facts.told_fault(V, still(V), thing)
+                strikes.never_fault(V, [], ("get", 0), thing)
+            for thing in [([], value, [], [], []), ([], "yes", [value], [], []), ([], "yes", [((0,), value)], [], []),
+                          ([], "yes", [(value, 0)], [], []), ([], "no", [], [], [value]), ([value], "no", [], [], [])]:
+                facts.told_fault(V, still(V), thing)
+            for thing in [("never", [value]), ("never", [((0,), value)]), ("shows", value), ("shows", [value])]:
+                strikes.never_fault(V, [], ("get", 0), thing)
+            for thing in [("amid", value, value, value), ("amid", [], value, 0), ("amid", [], ("get", 0), value)]:
+                moments.moment_fault(V, thing)
+            for thing in [("table", [value], []), ("table", [], [value]), ("pasts", [("cut", value, value)], [value], []),
+                          ("pasts", [("cut", ("get", 0), value)], [], []), ("pasts", [], [], [((0,), value)])]:
+                cuts.cut_fault(V, thing)
 
 
 class Examples(unittest.TestCase):
@@ -189,6 +292,10 @@ class Examples(unittest.TestCase):
                                      (1, ("get", 0)): 1}, [1])
         self.assertIs(R.reads([("put", 1), ("put", 0)]), True)
         self.assertIs(R.reads([("put", 0)]), False)
+        self.assertEqual(facts.known(W, R, (0, 1)), "yes")
+        self.assertEqual(facts.known_held(W, R, (0, 1)), "open")
+        self.assertEqual(facts.known(W, R, (0, 0)), "open")
+        self.assertEqual(strikes.never(W, [("put", 1)], ("put", 0)), ("shows", [("put", 1)]))
 
 
 INTERFACE = {
@@ -202,6 +309,11 @@ INTERFACE = {
     looks: {"pastless": "vault, *, behind=None, most=2000", "past_paper": "vault, *, behind=None, most=2000",
             "past_fault": "vault, thing, *, behind=None"},
     readers: {"Reader": "vault, many, first, table, marks"},
+    facts: {"known": "vault, reader, state, *, most=2000", "known_held": "vault, reader, state, *, most=2000",
+            "told": "vault, reader, *, most=2000", "told_fault": "vault, reader, thing", "telling_reader": "vault, *, most=2000"},
+    strikes: {"spared": "row, calls", "never": "vault, calls, close, *, most=2000", "never_fault": "vault, calls, close, thing"},
+    moments: {"moment_paper": "vault, *, most=2000", "moment_fault": "vault, thing"},
+    cuts: {"cut_led": "vault, row", "cut_states": "vault, *, most=2000", "cut_paper": "vault, *, most=2000", "cut_fault": "vault, thing"},
 }
 
 METHODS = {
