@@ -5,6 +5,31 @@ from pastless.runs import Moves
 from pastless.shares import moved, weights_key, weights_of
 
 
+class ShareMoves:
+    """What the calls do from shares, each told by its key; `kept` says whether what was found is kept."""
+
+    def __init__(self, vault, kept):
+        self._moves = Moves(vault)
+        self._many = len(vault.calls())
+        self._known = {}
+        self._kept = kept
+
+    def behind(self, key):
+        """For each call its one answer from a share, or None if it has several, and the key of the share behind it."""
+        if key in self._known:
+            return self._known[key]
+        found = [self._behind_call(key, number) for number in range(self._many)]
+        if self._kept:
+            self._known[key] = found
+        return found
+
+    def _behind_call(self, key, number):
+        ways = {state: self._moves.ways(state, number) for state, _ in key}
+        all_ways = [way for some in ways.values() for way in some]
+        answer = all_ways[0][1] if is_one_answer(all_ways) else None
+        return (answer, weights_key(moved({state: weight for state, weight in key}, ways)))
+
+
 class Table:
     """The shares of a table, by their places in its list, and where the calls lead from each of them.
 
@@ -13,35 +38,30 @@ class Table:
     places in `leads` are such first ones.
     """
 
-    def __init__(self, vault, shares):
+    def __init__(self, vault, shares, moves):
         self.fault = None
         self.replies = [[] for _ in vault.calls()]
         self.leads = [[] for _ in vault.calls()]
-        self._moves = Moves(vault)
-        self._weights = [weights_of(share) for share in shares]
+        self._moves = moves
         self._places = {}
-        keys = [weights_key(weights) for weights in self._weights]
+        keys = [weights_key(weights_of(share)) for share in shares]
         self.same = [self._places.setdefault(key, place) for place, key in enumerate(keys)]
         if weights_key({vault.first(): 1}) not in self._places:
             self.fault = ("first",)
         place = 0
         while place < len(shares) and self.fault is None:
-            self._go(place, vault.calls())
+            self._go(place, keys[place], vault.calls())
             place += 1
 
-    def _go(self, place, calls):
-        weights = self._weights[place]
-        for number, call in enumerate(calls):
-            ways = {state: self._moves.ways(state, number) for state in weights}
-            all_ways = [way for some in ways.values() for way in some]
-            if not is_one_answer(all_ways):
-                self.fault = ("answer", place, call)
+    def _go(self, place, key, calls):
+        for number, (answer, behind) in enumerate(self._moves.behind(key)):
+            if answer is None:
+                self.fault = ("answer", place, calls[number])
                 return
-            behind = weights_key(moved(weights, ways))
             if behind not in self._places:
-                self.fault = ("behind", place, call)
+                self.fault = ("behind", place, calls[number])
                 return
-            self.replies[number].append(all_ways[0][1])
+            self.replies[number].append(answer)
             self.leads[number].append(self._places[behind])
 
 

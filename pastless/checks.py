@@ -1,8 +1,10 @@
 """Whether values are integers, states, calls or rows of calls, and the errors if they are not."""
 
-from pastless.errors import HasCoins, NoCall, NoMost, NoRow, NoState, OtherCalls
+from pastless.errors import HasCoins, NoCall, NoMost, NoRow, NoSizes, NoState, OtherCalls
 
 GREATEST_MOST = 100000
+MOST_CELLS = 6
+GREATEST_SIZE = 9
 
 
 def is_integer(value):
@@ -26,6 +28,16 @@ def is_state(sizes, value):
         return False
     for size, held in zip(sizes, value):
         if not is_within(held, 0, size - 1):
+            return False
+    return True
+
+
+def are_states(sizes, value):
+    """Whether it is a list of states of cells of these sizes."""
+    if not isinstance(value, list):
+        return False
+    for state in value:
+        if not is_state(sizes, state):
             return False
     return True
 
@@ -120,6 +132,15 @@ def check_calls(vault, calls):
     """OtherCalls if these are not the calls of the vault, in the same order."""
     if calls != vault.calls():
         raise OtherCalls()
+
+
+def check_sizes(sizes):
+    """NoSizes if these are not the sizes of some cells."""
+    if not isinstance(sizes, tuple) or not 1 <= len(sizes) <= MOST_CELLS:
+        raise NoSizes()
+    for size in sizes:
+        if not is_within(size, 1, GREATEST_SIZE):
+            raise NoSizes()
 
 
 def check_most(most):

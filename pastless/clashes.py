@@ -4,7 +4,7 @@ A clash is a tuple (one, other, start) of two pasts and a list of pairs of place
 the one share is joined with each state of the other.
 """
 
-from pastless.shares import moved
+from pastless.shares import moved, weights_key
 
 
 def past_lengths(reach):
@@ -58,45 +58,82 @@ def plain_clash(reach, block, behind):
     return (past_to(reach, one), past_to(reach, other), [(one[1], other[1])])
 
 
-class Walk:
-    """The shares of pasts of a sure vault, by places, until a content has two of them.
-
-    `shares` has one share for each content that was met, as weights; `clash` is None if it is the only one of each.
-    """
+class Shares:
+    """The shares that are met, as weights by places, each told by its number; and where the calls lead from them."""
 
     def __init__(self, reach, block):
-        self.shares = []
-        self.clash = None
+        self.weights = []
+        self.kinds = []
         self._reach = reach
         self._block = block
+        self._numbers = {}
+        self._behind = {}
+
+    def put(self, weights):
+        """The number of a share; `kinds` has the block of its places, by this number."""
+        key = weights_key(weights)
+        if key not in self._numbers:
+            self._numbers[key] = len(self.weights)
+            self.weights.append(weights)
+            self.kinds.append(self._block[list(weights)[0]])
+        return self._numbers[key]
+
+    def behind(self, number):
+        """The list of the numbers of the shares behind the calls."""
+        if number not in self._behind:
+            self._behind[number] = [self._behind_call(number, call) for call in range(len(self._reach.replies))]
+        return self._behind[number]
+
+    def call_at(self, number):
+        """The call with this number."""
+        return self._reach.list_of_calls[number]
+
+    def _behind_call(self, number, call):
+        weights = self.weights[number]
+        return self.put(moved(weights, {place: self._reach.ways(place, call) for place in weights}))
+
+
+class Walk:
+    """The shares of the pasts of a sure vault that begins at a place, until a content has two of them.
+
+    `found` has the number of one share for each content that was met; `clash` is None if it is the only one of each.
+    """
+
+    def __init__(self, shares, place):
+        self.found = []
+        self.clash = None
+        self._shares = shares
         self._origins = []
-        self._by_block = {}
-        self._put({0: 1}, -1, 0)
+        self._by_kind = {}
+        self._put(shares.put({place: 1}), -1, 0)
         index = 0
-        while index < len(self.shares) and self.clash is None:
-            for number in range(len(reach.list_of_calls)):
-                ways = {place: reach.ways(place, number) for place in self.shares[index]}
-                self._put(moved(self.shares[index], ways), index, number)
+        while index < len(self.found) and self.clash is None:
+            for call, number in enumerate(shares.behind(self.found[index])):
+                self._put(number, index, call)
             index += 1
 
-    def _put(self, weights, before, number):
-        block = self._block[list(weights)[0]]
-        if block not in self._by_block:
-            self._by_block[block] = len(self.shares)
-            self.shares.append(weights)
-            self._origins.append((before, number))
+    def weights(self):
+        """The shares that were found, as weights by places."""
+        return [self._shares.weights[number] for number in self.found]
+
+    def _put(self, number, before, call):
+        kind = self._shares.kinds[number]
+        if kind not in self._by_kind:
+            self._by_kind[kind] = len(self.found)
+            self.found.append(number)
+            self._origins.append((before, call))
             return
-        known = self._by_block[block]
-        if self.clash is None and self.shares[known] != weights:
-            one = list(self.shares[known])
-            other = list(weights)
+        known = self._by_kind[kind]
+        if self.clash is None and self.found[known] != number:
+            one = list(self._shares.weights[self.found[known]])
+            other = list(self._shares.weights[number])
             start = [(one[0], place) for place in other] + [(place, other[0]) for place in one]
-            past = self._past_to(before) + [self._reach.list_of_calls[number]]
+            past = self._past_to(before) + [self._shares.call_at(call)]
             self.clash = (self._past_to(known), past, start)
 
     def _past_to(self, index):
         row = []
         while index > 0:
-            index, number = self._origins[index]
-            row.append(self._reach.list_of_calls[number])
+            index, call = self._origins[index]
+            row.append(self._shares.call_at(call))
         return row[::-1]

@@ -2,7 +2,7 @@
 
 from pastless.books import alike_fault
 from pastless.checks import (
-    are_pairs, are_rows, call_number, call_numbers, check_most, check_plain, is_state, is_tuple, is_within)
+    are_pairs, are_rows, are_states, call_number, call_numbers, check_most, check_plain, is_tuple, is_within)
 from pastless.closures import Closure
 from pastless.errors import NoRow
 from pastless.joins import joints_of
@@ -126,13 +126,9 @@ def cut_paper(vault, *, most=2000):
 
 def is_cut_table(vault, numbers, thing):
     """Whether it has the form of a list of states and a book."""
-    if not is_tuple(thing, 3) or thing[0] != "table" or not isinstance(thing[1], list):
+    if not is_tuple(thing, 3) or thing[0] != "table":
         return False
-    sizes = vault.sizes()
-    for state in thing[1]:
-        if not is_state(sizes, state):
-            return False
-    return are_rows(numbers, thing[2])
+    return are_states(vault.sizes(), thing[1]) and are_rows(numbers, thing[2])
 
 
 def is_cut_pasts(vault, thing):

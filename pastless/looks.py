@@ -1,8 +1,8 @@
 """One look: whether the cells tell more of the past than its content."""
 
-from pastless.books import Table, alike_fault
+from pastless.books import ShareMoves, Table, alike_fault
 from pastless.checks import are_pairs, are_rows, call_numbers, check_plain, is_row, is_tuple
-from pastless.clashes import Walk, plain_clash
+from pastless.clashes import Shares, Walk, plain_clash
 from pastless.closures import Closure, state_pairs
 from pastless.errors import NoNames
 from pastless.joins import joints_of
@@ -38,7 +38,7 @@ def pastless(vault, *, behind=None, most=2000):
     reach = sure_reach(vault, most)
     sorting = Sorting(reach.replies, reach.leads)
     if vault.has_coins():
-        return Walk(reach, sorting.block).clash is None
+        return Walk(Shares(reach, sorting.block), 0).clash is None
     return plain_clash(reach, sorting.block, behind) is None
 
 
@@ -48,9 +48,9 @@ def past_paper(vault, *, behind=None, most=2000):
     reach = sure_reach(vault, most)
     sorting = Sorting(reach.replies, reach.leads)
     if vault.has_coins():
-        walk = Walk(reach, sorting.block)
+        walk = Walk(Shares(reach, sorting.block), 0)
         clash = walk.clash
-        shares = walk.shares
+        shares = walk.weights()
     else:
         clash = plain_clash(reach, sorting.block, behind)
         shares = [{place: 1} for place in range(len(reach.found))]
@@ -90,16 +90,16 @@ def past_fault(vault, thing, *, behind=None):
     check_behind(vault, behind)
     numbers = call_numbers(vault)
     if is_table(vault, numbers, thing):
-        rows = [[numbers[call] for call in row] for row in thing[2]]
-        return table_fault(vault, thing[1], rows, behind)
+        return table_fault(vault, thing[1:], behind, ShareMoves(vault, False))
     if is_pasts(vault, numbers, thing):
         return pasts_fault(vault, thing[1:], behind)
     return ("form",)
 
 
-def table_fault(vault, shares, rows, behind):
-    """The first fault of a table that has its form, with the numbers of the calls in the rows; None if it has none."""
-    table = Table(vault, shares)
+def table_fault(vault, parts, behind, moves):
+    """The first fault of a tuple of shares and a book that have their form; None if it has none."""
+    shares, book = parts
+    table = Table(vault, shares, moves)
     if table.fault is not None:
         return table.fault
     if behind is None:
@@ -110,7 +110,8 @@ def table_fault(vault, shares, rows, behind):
             if call[0] in behind:
                 for place in table.leads[number]:
                     counted[place] = True
-    return alike_fault(table, rows, counted)
+    numbers = call_numbers(vault)
+    return alike_fault(table, [[numbers[call] for call in row] for row in book], counted)
 
 
 def pasts_fault(vault, pasts, behind):

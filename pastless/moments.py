@@ -1,5 +1,6 @@
 """Looks at every moment: whether the cells tell no more in the middle of a call, either."""
 
+from pastless.books import ShareMoves
 from pastless.checks import call_number, call_numbers, check_plain, is_integer, is_row, is_tuple
 from pastless.looks import is_pasts, is_table, past_paper, pasts_fault, table_fault
 from pastless.plain import Plain
@@ -67,9 +68,7 @@ def moment_fault(vault, thing):
 
 def moment_table_fault(vault, thing):
     """The first fault of a table whose shares are of one state each; None if it has none."""
-    numbers = call_numbers(vault)
-    rows = [[numbers[call] for call in row] for row in thing[2]]
-    fault = table_fault(vault, thing[1], rows, None)
+    fault = table_fault(vault, thing[1:], None, ShareMoves(vault, False))
     if fault is not None:
         return fault
     shown = amid_of(vault, [list(share)[0] for share in thing[1]])

@@ -1,14 +1,13 @@
 """Vaults: programs that keep something in cells."""
 
 from pastless.bodies import is_body
-from pastless.checks import check_state, is_tuple, is_within
+from pastless.checks import GREATEST_SIZE, MOST_CELLS, check_state, is_tuple, is_within
 from pastless.codes import code_of
 from pastless.errors import NoName, NoVault
 
-MOST_CELLS = 6
 MOST_DEEDS = 8
 LONGEST_NAME = 8
-GREATEST = 9
+MOST_CHOICES = 9
 
 
 class Vault:
@@ -81,7 +80,7 @@ def has_row(codes, word):
 
 def is_cell(value):
     """Whether it is a tuple (size, first) of a cell."""
-    return is_tuple(value, 2) and is_within(value[0], 1, GREATEST) and is_within(value[1], 0, value[0] - 1)
+    return is_tuple(value, 2) and is_within(value[0], 1, GREATEST_SIZE) and is_within(value[1], 0, value[0] - 1)
 
 
 def are_cells(cells):
@@ -104,9 +103,14 @@ def is_name(value):
     return True
 
 
+def is_deed_head(value):
+    """Whether it is a tuple (name, choices) of a deed."""
+    return is_tuple(value, 2) and is_name(value[0]) and is_within(value[1], 1, MOST_CHOICES)
+
+
 def is_deed(value, cells):
     """Whether it is a tuple (name, choices, rows) of a deed of a vault with so many cells."""
-    return is_tuple(value, 3) and is_name(value[0]) and is_within(value[1], 1, GREATEST) and is_body(value[2], cells)
+    return is_tuple(value, 3) and is_deed_head(value[:2]) and is_body(value[2], cells)
 
 
 def are_deeds(deeds, cells):

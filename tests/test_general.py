@@ -4,16 +4,17 @@ import copy
 import inspect
 import unittest
 
-from pastless import cuts, errors, facts, holds, likes, looks, moments, readers, runs, strikes, vaults
+from pastless import coins, cuts, errors, facts, holds, layings, likes, looks, moments, readers, runs, strikes, tables, vaults, wishes
 from pastless.errors import (HasCoins, NoCall, NoCoins, NoMost, NoNames, NoState, NotComing, NotSure, TooMany)
 from pastless.vaults import Vault
 from odd import ODD, odd_but
 from slow import K, LOOSE, UNSURE, V, W, counter
+from slow_wishes import ring_wish
 
 MOST = [
     (holds.states, ()), (holds.unsure, ()), (holds.contents, ()), (holds.content, ("first",)),
     (holds.parted, ("first", "first")), (holds.most_layouts, ()), (likes.likeness, ("first", "first")), (looks.pastless, ()),
-    (looks.past_paper, ()),
+    (looks.past_paper, ()), (coins.forever, ()), (coins.forever_paper, ()), (coins.returns, ()),
 ]
 
 
@@ -24,12 +25,18 @@ PLAIN_MOST = [
     lambda vault, **named: facts.told(vault, still(vault), **named), facts.telling_reader,
     lambda vault, **named: strikes.never(vault, [vault.calls()[0]], vault.calls()[-1], **named),
     moments.moment_paper, cuts.cut_states, cuts.cut_paper,
+    lambda vault, **named: wishes.unkept(vault, silent(vault), **named),
 ]
 
 
 def still(vault):
     """A reader of one stand."""
     return readers.Reader(vault, 1, 0, {(0, call): 0 for call in vault.calls()}, [0])
+
+
+def silent(vault):
+    """The wish that each call answers 0."""
+    return wishes.Wish([(name, vault.choices(name)) for name in vault.names()], [{call: (0, 0) for call in vault.calls()}])
 
 
 def arguments(vault, names):
@@ -133,6 +140,8 @@ class Most(unittest.TestCase):
             if what not in (holds.states, holds.unsure):
                 with self.assertRaises(NotSure):
                     what(*arguments(UNSURE, names))
+        with self.assertRaises(NotSure):
+            wishes.wish_of(UNSURE)
         gone = Vault([(3, 0)], [("flip", 1, (("coin", "a"), ("set", 0, "a"), ("answer", "a")))])
         calm = Vault([(3, 0)], [("one", 1, (("set", 0, 1),))])
         for what, names in MOST:
@@ -177,7 +186,7 @@ def samples():
         (looks.past_fault, [V, looks.past_paper(V)], {"behind": ["put"]}), (looks.past_fault, [W, looks.past_paper(W)], {}),
         (looks.past_fault, [LOOSE, looks.past_paper(LOOSE)], {}),
         (V.names, [], {}), (V.calls, [], {}), (V.rows, ["put"], {}), (V.shape, [], {}), (reader.reads, [row], {}),
-    ] + samples_of_plain(row)
+    ] + samples_of_plain(row) + samples_of_wishes()
 
 
 def samples_of_plain(row):
@@ -197,6 +206,26 @@ def samples_of_plain(row):
         (moments.moment_fault, [W, ("amid", [("put", 1)], ("put", 0), 1)], {}),
         (cuts.cut_led, [W, [cut] + row], {}), (cuts.cut_states, [W], {}), (cuts.cut_paper, [V], {}), (cuts.cut_paper, [W], {}),
         (cuts.cut_fault, [V, cuts.cut_paper(V)], {}), (cuts.cut_fault, [W, ("pasts", [cut] + row, [], [((0, 1), (0, 0))])], {}),
+    ]
+
+
+def samples_of_wishes():
+    """Functions and methods of the wishes, and those of coins, with arguments."""
+    wish, ring = wishes.wish_of(V), ring_wish(5)
+    shown = [coins.forever_paper(vault) for vault in (V, K, W, LOOSE)]
+    return [
+        (wishes.wish_of, [LOOSE], {}), (wishes.unkept, [V, wish], {}), (wishes.unkept, [V, silent(V)], {}),
+        (wish.deeds, [], {}), (wish.calls, [], {}), (wish.ties, [], {}), (wish.shape, [], {}), (wish.answer, [1, ("get", 0)], {}),
+        (tables.table_vault, [wish, (2, 2), [(0, 0), (1, 1), (0, 1)]], {}),
+        (layings.laid, [wish, (3,)], {}), (layings.laid, [wish, (2, 2)], {}), (layings.laid, [ring, (2, 2, 2)], {}),
+        (layings.laid_fault, [wish, (3,), ("laid", [(0,), (1,), (2,)])], {}), (layings.laid_fault, [ring, (2, 2), ("laid", [(0, 0)])], {}),
+        (layings.laid_fault, [wish, (2, 2), layings.laid(wish, (2, 2))], {}), (layings.laid_fault, [ring, (2, 2, 2), layings.laid(ring, (2, 2, 2))], {}),
+        (layings.laid_fault, [wish, (2, 2), ("barred", ("place", 1, 0, [None, []]))], {}),
+        (layings.crowd, [wish], {}), (layings.least_cells, [ring, 2], {}),
+        (coins.forever, [LOOSE], {}), (coins.forever_paper, [V], {}), (coins.forever_paper, [K], {}), (coins.forever_paper, [LOOSE], {}),
+        (coins.forever_fault, [V, shown[0]], {}), (coins.forever_fault, [K, shown[1]], {}), (coins.forever_fault, [W, shown[2]], {}),
+        (coins.forever_fault, [LOOSE, shown[3]], {}), (coins.forever_fault, [K, ("tables", {(0,): shown[1][1][(0,)]})], {}),
+        (coins.returns, [K], {}),
     ]
 
 
@@ -247,6 +276,16 @@ class Values(unittest.TestCase):
                     (NoMost, lambda: moments.moment_paper(V, most=value)), (NoMost, lambda: cuts.cut_paper(V, most=value)),
                     (errors.NoRow, lambda: cuts.cut_led(V, value)), (errors.NoRow, lambda: cuts.cut_led(V, [value])),
                     (errors.NoRow, lambda: cuts.cut_led(V, [("cut", value, 0)])),
+                    (errors.NoWish, lambda: wishes.Wish(value, value)), (errors.NoWish, lambda: wishes.Wish([("a", 1)], [value])),
+                    (errors.NoWish, lambda: wishes.Wish([value], value)), (errors.NoWish, lambda: wishes.Wish([("a", 1)], [{("a", 0): value if value != (0, 0) else None}])),
+                    (errors.NoContent, lambda: silent(V).answer(value if value != 0 else None, value)),
+                    (NoCall, lambda: silent(V).after(0, value)), (NoMost, lambda: wishes.wish_of(V, most=value)),
+                    (NoMost, lambda: wishes.unkept(V, silent(V), most=value)), (errors.NoSizes, lambda: layings.laid(silent(V), value)),
+                    (errors.NoSizes, lambda: tables.table_vault(silent(V), value, value)), (errors.NoSizes, lambda: layings.laid(silent(V), (value, 2))
+                     if value not in (1, 7) else layings.laid(silent(V), ())),
+                    (errors.NoLayouts, lambda: tables.table_vault(wishes.wish_of(V), (3,), value)),
+                    (errors.NoLayouts, lambda: tables.table_vault(silent(V), (3,), [value if value != (0,) else None])),
+                    (errors.NoSize, lambda: layings.least_cells(silent(V), value)), (NoMost, lambda: coins.forever_paper(V, most=value)),
                     (errors.NoRow, lambda: cuts.cut_led(V, [("cut", ("put", 0), value if value not in (0, 1) else None)]))]:
                 with self.assertRaises(error):
                     what()
@@ -263,6 +302,15 @@ class Values(unittest.TestCase):
                 cuts.cut_fault(V, thing)
                 facts.told_fault(V, still(V), thing)
                 strikes.never_fault(V, [], ("get", 0), thing)
+                coins.forever_fault(V, thing)
+                layings.laid_fault(wishes.wish_of(V), (2, 2), thing)
+                layings.laid_fault(wishes.wish_of(V), (2, 2), ("barred", thing))
+            for thing in [("tables", value), ("tables", {(0,): value}), ("tables", {(0,): ([value], value)}), ("tables", {(0,): ([], [value])}),
+                          ("looks", value, value, value, value, value), ("looks", [], (0,), [], [], [value]), ("looks", [], value, [], [], [])]:
+                coins.forever_fault(V, thing)
+            for thing in [("laid", value), ("laid", [value]), ("barred", ("crowd", value)), ("barred", ("place", value, value, value)),
+                          ("barred", ("place", 1, 0, [value, value])), ("barred", ("place", 1, 0, [("taken", value), ("apart", value)]))]:
+                layings.laid_fault(wishes.wish_of(V), (2, 2), thing)
             for thing in [([], value, [], [], []), ([], "yes", [value], [], []), ([], "yes", [((0,), value)], [], []),
                           ([], "yes", [(value, 0)], [], []), ([], "no", [], [], [value]), ([value], "no", [], [], [])]:
                 facts.told_fault(V, still(V), thing)
@@ -296,6 +344,12 @@ class Examples(unittest.TestCase):
         self.assertEqual(facts.known_held(W, R, (0, 1)), "open")
         self.assertEqual(facts.known(W, R, (0, 0)), "open")
         self.assertEqual(strikes.never(W, [("put", 1)], ("put", 0)), ("shows", [("put", 1)]))
+        self.assertEqual(layings.crowd(wishes.wish_of(V)), [0, 1, 2])
+        self.assertIs(layings.least_cells(wishes.wish_of(V), 2), None)
+        self.assertEqual(layings.least_cells(wishes.wish_of(V), 3), 1)
+        self.assertEqual(wishes.wish_of(V).ties(), [(0, 1), (0, 2), (1, 2)])
+        self.assertIs(coins.forever(K), True)
+        self.assertIs(coins.returns(K), False)
 
 
 INTERFACE = {
@@ -313,12 +367,19 @@ INTERFACE = {
             "told": "vault, reader, *, most=2000", "told_fault": "vault, reader, thing", "telling_reader": "vault, *, most=2000"},
     strikes: {"spared": "row, calls", "never": "vault, calls, close, *, most=2000", "never_fault": "vault, calls, close, thing"},
     moments: {"moment_paper": "vault, *, most=2000", "moment_fault": "vault, thing"},
+    wishes: {"Wish": "deeds, table", "wish_of": "vault, *, most=2000", "unkept": "vault, wish, *, most=2000"},
+    tables: {"table_vault": "wish, sizes, layouts"},
+    layings: {"laid": "wish, sizes", "laid_fault": "wish, sizes, thing", "crowd": "wish", "least_cells": "wish, size"},
+    coins: {"forever": "vault, *, most=2000", "forever_paper": "vault, *, most=2000", "forever_fault": "vault, thing",
+            "returns": "vault, *, most=2000"},
     cuts: {"cut_led": "vault, row", "cut_states": "vault, *, most=2000", "cut_paper": "vault, *, most=2000", "cut_fault": "vault, thing"},
 }
 
 METHODS = {
     vaults.Vault: {"sizes": "", "first": "", "names": "", "choices": "name", "rows": "name", "calls": "", "has_coins": "", "shape": "",
                    "__eq__": "other"},
+    wishes.Wish: {"many": "", "deeds": "", "calls": "", "answer": "content, call", "after": "content, call", "ties": "", "shape": "",
+                  "__eq__": "other"},
     readers.Reader: {"many": "", "first": "", "after": "stand, call", "marked": "stand", "reads": "row"},
 }
 

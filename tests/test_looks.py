@@ -130,6 +130,19 @@ class Paper(unittest.TestCase):
         paper = past_paper(vault, behind=["stay"])
         self.assertEqual(sorted([paper[1], paper[2]]), [[("go", 0)] * 3 + [("stay", 0)], [("stay", 0)]])
 
+    def test_the_least_sum_of_made_webs(self):
+        sums = set()
+        for seed in range(150):
+            dice = Maker(seed).dice
+            leads = [(dice.randrange(8), dice.randrange(8)) for _ in range(8)]
+            vault = web(leads, [dice.randrange(3) * dice.randrange(2) for _ in range(8)])
+            for behind in (None, ["go"], ["stay"]):
+                paper = past_paper(vault, behind=behind)
+                if paper[0] == "pasts":
+                    self.shortest(vault, paper, behind)
+                    sums.add(len(paper[1]) + len(paper[2]))
+        self.assertTrue(sums >= {1, 2, 3, 4, 5}, sums)
+
     def test_long_book(self):
         vault = counter(4, 6)
         paper = past_paper(vault)
