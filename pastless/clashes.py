@@ -112,7 +112,7 @@ class Walk:
                 self._put(number, index, call)
             index += 1
 
-    def weights(self):
+    def found_weights(self):
         """The shares that were found, as weights by places."""
         return [self._shares.weights[number] for number in self.found]
 

@@ -31,7 +31,7 @@ def first_clash(reach, shares):
             if walk.clash is not None:
                 return (place, walk.clash)
             # Where a past is sure to lead to one state, its pasts are those of the vault that was gone through.
-            for weights in walk.weights():
+            for weights in walk.found_weights():
                 if len(weights) == 1:
                     passed[list(weights)[0]] = True
     return None

@@ -50,7 +50,7 @@ def past_paper(vault, *, behind=None, most=2000):
     if vault.has_coins():
         walk = Walk(Shares(reach, sorting.block), 0)
         clash = walk.clash
-        shares = walk.weights()
+        shares = walk.found_weights()
     else:
         clash = plain_clash(reach, sorting.block, behind)
         shares = [{place: 1} for place in range(len(reach.found))]

@@ -54,7 +54,7 @@ class Reader:
             stand = self._leads[self._numbers[call]][stand]
         return stand in self._marks
 
-    def list_of_calls(self):
+    def read_calls(self):
         """The calls that it reads, in their order."""
         return list(self._numbers)
 

@@ -43,7 +43,7 @@ def said_of_all(said, places):
 def check_reader(vault, reader):
     """HasCoins, OtherCalls."""
     check_plain(vault)
-    check_calls(vault, reader.list_of_calls())
+    check_calls(vault, reader.read_calls())
 
 
 def standings_of(vault, reader, most):
