@@ -1,7 +1,7 @@
 """Coins, and more than one look: whether the cells tell no more, however often they are handed out."""
 
 from pastless.books import ShareMoves
-from pastless.checks import are_pairs, call_numbers, is_row, is_state, is_tuple
+from pastless.checks import call_numbers, is_row, is_state, is_tuple
 from pastless.clashes import Shares, Walk
 from pastless.closures import Closure, state_pairs
 from pastless.looks import is_pasts, is_table, pasts_fault, table_fault

@@ -120,8 +120,18 @@ ACTIONS = {
 }
 
 
+def do_row(run):
+    """Does the next row, and returns it."""
+    row = run.code[run.place]
+    run.place += 1
+    action = ACTIONS[row[0]]
+    action(run, row)
+    return row
+
+
 def finish(run):
     """Does all rows until the call is answered."""
+    # Most of all runs go through here: so the rows are done on the spot, not by do_row.
     code = run.code
     while run.result is None:
         row = code[run.place]
@@ -134,15 +144,35 @@ def finish_telling(run):
     """Does all rows until the call is answered; the list of the steps, as [9] tells them."""
     steps = []
     while run.result is None:
-        row = run.code[run.place]
-        run.place += 1
-        action = ACTIONS[row[0]]
-        action(run, row)
+        row = do_row(run)
         if row[0] == "set":
             steps.append(("set", row[1], run.cells[row[1]], tuple(run.cells)))
         elif row[0] in STEPS:
             steps.append((row[0], row[2], run.held[row[1]], tuple(run.cells)))
     return steps
+
+
+def go_on(run):
+    """Does all rows up to the place just ahead of the next step, or until the call is answered."""
+    while run.result is None and run.code[run.place][0] not in STEPS:
+        do_row(run)
+
+
+def do_step(run):
+    """Does the step that the run is just ahead of; what it comes to: what the register got, or None for a "set"."""
+    row = do_row(run)
+    return None if row[0] == "set" else run.held[row[1]]
+
+
+def branched(run, cells):
+    """A run that is at the same place and holds the same, on these cells."""
+    other = Run((run.code, 0), run.sides, cells, run.coins)
+    other.fallen = run.fallen
+    other.held = dict(run.held)
+    other.rounds = list(run.rounds)
+    other.place = run.place
+    other.result = run.result
+    return other
 
 
 def ways_from(start, sizes, state):

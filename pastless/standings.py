@@ -50,3 +50,44 @@ def standings_of(vault, reader, most):
     """All that can come of a vault, and where a reader stands meanwhile; NoMost, TooMany."""
     reach = reach_of(vault, most)
     return (reach, Standings(reach, reader, most))
+
+
+def said_behind_looks(reach, reader, standings, states):
+    """What is said of the pasts up to the last of several looks, at these states one behind the other."""
+    found = standings.trail.found
+    leads = standing_leads(reach, reader, standings)
+    places = [reach.places[state] for state in states]
+    held = [index for index, standing in enumerate(found) if standing[0] == places[0]]
+    # Whoever looks often sees the same again and again.
+    known = {}
+    for place in places[1:]:
+        key = (tuple(held), place)
+        if key not in known:
+            known[key] = [index for index in reached(leads, held) if found[index][0] == place]
+        held = known[key]
+    return {reader.marked(found[index][1]): index for index in held}
+
+
+def standing_leads(reach, reader, standings):
+    """For each of the trail's places those to which the calls lead."""
+    places = standings.trail.places
+    leads = []
+    for place, stand in standings.trail.found:
+        behind = {}
+        for number in range(len(reach.list_of_calls)):
+            behind[places[(reach.leads[number][place], reader.lead(stand, number))]] = True
+        leads.append(list(behind))
+    return leads
+
+
+def reached(leads, held):
+    """The ascending list of the places that can be come to from these, by any leads, none or more."""
+    seen = {index: True for index in held}
+    due = list(held)
+    while due:
+        index = due.pop()
+        for behind in leads[index]:
+            if behind not in seen:
+                seen[behind] = True
+                due.append(behind)
+    return sorted(seen)

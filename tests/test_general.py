@@ -4,7 +4,8 @@ import copy
 import inspect
 import unittest
 
-from pastless import coins, cuts, errors, facts, holds, layings, likes, looks, moments, readers, runs, strikes, tables, vaults, wishes
+from pastless import (choices, coins, cuts, desk, editions, errors, facts, hands, holds, houses, layings, likes, looks, moments, orders, readers,
+                      rowtexts, runs, strikes, tables, texts, vaults, wishes)
 from pastless.errors import (HasCoins, NoCall, NoCoins, NoMost, NoNames, NoState, NotComing, NotSure, TooMany)
 from pastless.vaults import Vault
 from odd import ODD, odd_but
@@ -14,7 +15,7 @@ from slow_wishes import ring_wish
 MOST = [
     (holds.states, ()), (holds.unsure, ()), (holds.contents, ()), (holds.content, ("first",)),
     (holds.parted, ("first", "first")), (holds.most_layouts, ()), (likes.likeness, ("first", "first")), (looks.pastless, ()),
-    (looks.past_paper, ()), (coins.forever, ()), (coins.forever_paper, ()), (coins.returns, ()),
+    (looks.past_paper, ()), (coins.forever, ()), (coins.forever_paper, ()), (coins.returns, ()), (choices.best_choice, ()),
 ]
 
 
@@ -26,12 +27,21 @@ PLAIN_MOST = [
     lambda vault, **named: strikes.never(vault, [vault.calls()[0]], vault.calls()[-1], **named),
     moments.moment_paper, cuts.cut_states, cuts.cut_paper,
     lambda vault, **named: wishes.unkept(vault, silent(vault), **named),
+    lambda vault, **named: editions.edition_paper(vault, vault, **named), lambda vault, **named: looked_at(vault).known(still(vault), **named),
 ]
 
 
 def still(vault):
     """A reader of one stand."""
     return readers.Reader(vault, 1, 0, {(0, call): 0 for call in vault.calls()}, [0])
+
+
+def looked_at(vault):
+    """A house whose cells were handed out at its beginning, and once more."""
+    house = houses.House(vault)
+    house.look()
+    house.look()
+    return house
 
 
 def silent(vault):
@@ -350,6 +360,11 @@ class Examples(unittest.TestCase):
         self.assertEqual(wishes.wish_of(V).ties(), [(0, 1), (0, 2), (1, 2)])
         self.assertIs(coins.forever(K), True)
         self.assertIs(coins.returns(K), False)
+        self.assertEqual(texts.vault_text(V), "cell 3 0\ndeed put 3\nset 0 x\ndeed get 1\nread a 0\nanswer a")
+        self.assertEqual(texts.expression_text(("+", "a", ("*", "x", 2))), "(a+(x*2))")
+        self.assertEqual(choices.weight(W, [(0, 0), (1, 0)]), (1, 2))
+        I = Vault([(3, 0)], [("inc", 1, (("read", "a", 0), ("set", 0, ("+", "a", 1)), ("answer", "a")))])
+        self.assertEqual(len(orders.broken(I, "right")), 6)
 
 
 INTERFACE = {
@@ -372,6 +387,15 @@ INTERFACE = {
     layings: {"laid": "wish, sizes", "laid_fault": "wish, sizes, thing", "crowd": "wish", "least_cells": "wish, size"},
     coins: {"forever": "vault, *, most=2000", "forever_paper": "vault, *, most=2000", "forever_fault": "vault, thing",
             "returns": "vault, *, most=2000"},
+    hands: {"Hands": "vault"},
+    orders: {"order": "vault, weaving, *, cells=False", "order_fault": "vault, weaving, thing, *, cells=False", "kept": "vault, rule, weaving",
+             "broken": "vault, rule, *, most=20000"},
+    choices: {"weight": "vault, choice, *, most=2000", "best_choice": "vault, *, most=2000", "tidied": "vault, choice, *, most=2000"},
+    editions: {"edition_paper": "old, new, *, most=2000", "edition_fault": "old, new, thing"},
+    houses: {"House": "vault"},
+    texts: {"expression_text": "e", "read_expression": "text", "vault_text": "vault", "read_vault": "text"},
+    rowtexts: {"row_text": "row", "weaving_text": "weaving", "state_text": "state", "read_row": "text", "read_weaving": "text", "read_state": "text"},
+    desk: {"Desk": ""},
     cuts: {"cut_led": "vault, row", "cut_states": "vault, *, most=2000", "cut_paper": "vault, *, most=2000", "cut_fault": "vault, thing"},
 }
 
@@ -380,6 +404,10 @@ METHODS = {
                    "__eq__": "other"},
     wishes.Wish: {"many": "", "deeds": "", "calls": "", "answer": "content, call", "after": "content, call", "ties": "", "shape": "",
                   "__eq__": "other"},
+    hands.Hands: {"call": "hand, call", "step": "hand", "state": "", "busy": "hand", "weaving": "", "told": ""},
+    houses.House: {"tell": "falls", "falls": "", "call": "call", "cut": "call, many", "look": "", "edition": "vault", "state": "", "vault": "", "log": "",
+                   "answers": "", "__len__": "", "back": "many", "copy": "", "tried": "action", "known": "reader, *, most=2000"},
+    desk.Desk: {"tell": "line", "undoable": ""},
     readers.Reader: {"many": "", "first": "", "after": "stand, call", "marked": "stand", "reads": "row"},
 }
 

@@ -74,6 +74,16 @@ class Style(unittest.TestCase):
                 if isinstance(node, ast.arg):
                     self.assertNotIn(node.arg, taken, name)
 
+    def test_a_name_is_a_method_or_an_attribute(self):
+        methods, attributes = set(), set()
+        for _, text in sources():
+            for node in ast.walk(ast.parse(text)):
+                if isinstance(node, ast.ClassDef):
+                    methods |= {part.name for part in node.body if isinstance(part, ast.FunctionDef)}
+                if isinstance(node, ast.Attribute) and isinstance(node.ctx, ast.Store):
+                    attributes.add(node.attr)
+        self.assertEqual(methods & attributes, set())
+
     def test_imports(self):
         names = [name[:-3] for name, _ in sources()]
         imports = {}
