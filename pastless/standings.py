@@ -55,8 +55,8 @@ def standings_of(vault, reader, most):
 def said_behind_looks(reach, reader, standings, states):
     """What is said of the pasts up to the last of several looks, at these states one behind the other."""
     found = standings.trail.found
-    leads = standing_leads(reach, reader, standings)
     places = [reach.places[state] for state in states]
+    leads = standing_leads(reach, reader, standings) if len(places) > 1 else []
     held = [index for index, standing in enumerate(found) if standing[0] == places[0]]
     # Whoever looks often sees the same again and again.
     known = {}

@@ -139,6 +139,14 @@ class Best(unittest.TestCase):
         self.assertEqual(contents(vault), [[low], [one, two], [high]])
         self.assertEqual([slow_weight(vault, [low, middle, high]) for middle in (one, two)], [(3, 8), (2, 12)])
         self.assertEqual(best_choice(vault), [low, two, high])
+        # Where another call changes three cells in any case, the sum alone is left to be made less.
+        far = (1, 1, 1, 0)
+        deeds = [("go", 5, {low: one, one: one, two: two, high: high, far: far}), ("on", 1, {low: low, one: high, two: high, high: high, far: far}),
+                 ("turn", 1, {low: low, one: two, two: one, high: high, far: far}), ("far", 1, {low: far, one: one, two: two, high: high, far: far})]
+        vault = lookup((low, one, two, high, far), {low: 0, one: 1, two: 1, high: 2, far: 3}, deeds)
+        self.assertEqual(contents(vault), [[low], [one, two], [far], [high]])
+        self.assertEqual([slow_weight(vault, [low, middle, far, high]) for middle in (one, two)], [(3, 11), (3, 15)])
+        self.assertEqual(best_choice(vault), [low, one, far, high])
 
     def test_like_the_slow_one(self):
         met = set()

@@ -119,6 +119,16 @@ class Paper(unittest.TestCase):
         self.assertEqual(edition_paper(old, new)[:3], ("table", [(2,)], [(2,)]))
         self.assertEqual(edition_paper(begun(old, (1,)), new)[0], "pasts")
 
+    def test_long_pasts(self):
+        """Only behind three calls of the one and two or three of the other is there a state that is like another one."""
+        old = Vault([(4, 0), (4, 0)], [("on", 1, (("read", "a", 0), ("if", ("<", "a", 3), (("set", 0, ("+", "a", 1)),), ())))])
+        new = Vault([(4, 0), (4, 0)], [("up", 1, (("read", "a", 0), ("read", "b", 1), ("if", ("*", ("=", "a", 3), ("<", "b", 3)), (("set", 1, ("+", "b", 1)),), ()))),
+                                       ("see", 1, (("read", "a", 0), ("read", "b", 1), ("answer", ("+", "a", ("*", 4, ("<", 1, "b"))))))])
+        kind, one, other, pairs = edition_paper(old, new)
+        ups = sorted([one, other])
+        self.assertEqual((kind, ups), ("pasts", [([("on", 0)] * 3, [("up", 0)] * 2), ([("on", 0)] * 3, [("up", 0)] * 3)]))
+        self.assertIs(edition_fault(old, new, (kind, one, other, pairs)), None)
+
     def test_calls_of_their_own(self):
         """The rows of calls are of other deeds."""
         old = Vault([(2, 0), (2, 0)], [("mark", 2, (("set", 1, "x"),))])

@@ -273,8 +273,19 @@ class Back(unittest.TestCase):
             many = dice.randrange(1, 10)
             house.back(many)
             self.assertEqual(picture(house), pictures[9 - many])
-            house.back(len(house))
-            self.assertEqual(picture(house), pictures[0])
+            # It goes on from there, and that can be taken back, too.
+            del pictures[9 - many:]
+            for _ in range(2):
+                house.tell([1, 0, 1, 0])
+                pictures.append(picture(house))
+                house.call(TOSS if TOSS in house.vault().calls() else GET)
+            start = pictures[0]
+            for _ in range(dice.randrange(3)):
+                house.back(1)
+                self.assertEqual(picture(house), pictures.pop())
+            if len(house) > 0:
+                house.back(len(house))
+                self.assertEqual(picture(house), start)
 
 
 class Copies(unittest.TestCase):

@@ -13,19 +13,20 @@ from pastless.editions import edition_fault, edition_paper
 from pastless.errors import NoMost, NotSure, TooMany, TooWide
 from pastless.facts import known, known_held, telling_reader, told, told_fault
 from pastless.hands import Hands
-from pastless.holds import content, contents, most_layouts, states, unsure, unsure_fault
+from pastless.holds import content, contents, most_layouts, parted, states, unsure, unsure_fault
 from pastless.houses import House
 from pastless.likes import likeness, likeness_fault
 from pastless.looks import past_fault, past_paper, pastless
 from pastless.moments import moment_fault, moment_paper
 from pastless.runs import led, share
+from pastless.strikes import never
 from pastless.vaults import Vault, begun
 from pastless.wishes import unkept, wish_of
 from odd import ODD, odd_but
 from slow import K, LOOSE, V, W, Maker
 from slow_hands import I, racy_vault
 from slow_pasts import made_reader
-from test_general import ever_one, lists_in, spoil
+from test_general import ever_one, lists_in, silent, spoil, still
 
 PUT, ONE, GET = ("put", 0), ("put", 1), ("get", 0)
 HOLDS = Vault([(2, 0), (2, 0)], [("put", 2, (("set", 0, "x"),)), ("get", 1, (("read", "a", 0), ("answer", "a")))])
@@ -190,6 +191,49 @@ class Most(unittest.TestCase):
             orders.broken(V, "none", most=0)
         with self.assertRaises(errors.OtherSizes):
             edition_paper(V, W, most=0)
+
+
+def ring(many):
+    """A vault that counts through so many states and tells nothing of them: they are all like one another."""
+    last = [(many - 1) // 9 ** digit % 9 for digit in range(4)]
+    rows = (("set", 0, ("+", "a", 1)),)
+    for digit in (1, 2, 3):
+        more = (("set", digit, ("+", "abcd"[digit], 1)),)
+        lower = tuple(("set", cell, 0) for cell in range(digit))
+        all_eights = ("=", "a", 8)
+        for cell in range(1, digit):
+            all_eights = ("*", all_eights, ("=", "abcd"[cell], 8))
+        rows = rows + (("if", all_eights, lower + more, ()),)
+    at_last = ("*", ("*", ("=", "a", last[0]), ("=", "b", last[1])), ("*", ("=", "c", last[2]), ("=", "d", last[3])))
+    look = tuple(("read", reg, cell) for cell, reg in enumerate("abcd"))
+    return Vault([(9, 0)] * 4, [("on", 1, look + (("if", at_last, tuple(("set", cell, 0) for cell in range(4)), rows),)), ("none", 1, ())])
+
+
+class LeftOut(unittest.TestCase):
+    """[6]: what is left out is 2000."""
+
+    def whats(self, vault):
+        first, on = vault.first(), ("on", 0)
+        looked = House(vault)
+        looked.look()
+        return [lambda: states(vault), lambda: unsure(vault), lambda: contents(vault), lambda: content(vault, first), lambda: parted(vault, first, first),
+                lambda: most_layouts(vault), lambda: likeness(vault, first, first), lambda: pastless(vault), lambda: past_paper(vault),
+                lambda: known(vault, still(vault), first), lambda: known_held(vault, still(vault), first), lambda: told(vault, still(vault)),
+                lambda: telling_reader(vault), lambda: never(vault, [("none", 0)], on), lambda: moment_paper(vault), lambda: wish_of(vault),
+                lambda: unkept(vault, silent(vault)), lambda: forever(vault), lambda: forever_paper(vault), lambda: returns(vault),
+                lambda: choices.weight(vault, [first]), lambda: choices.best_choice(vault), lambda: choices.tidied(vault, [first]),
+                lambda: edition_paper(vault, vault), lambda: looked.known(still(vault))]
+
+    def test_just_enough(self):
+        self.assertEqual(len(states(ring(2000))), 2000)
+        for what in self.whats(ring(2000)):
+            what()
+
+    def test_one_too_many(self):
+        for what in self.whats(ring(2001)):
+            with self.assertRaises(TooMany) as caught:
+                what()
+            self.assertEqual(caught.exception.most, 2000)
 
 
 def some_vaults(many, coins=None):
